@@ -1,0 +1,59 @@
+"""Names and arguments of the interface, each defined in the file under which it is listed."""
+
+import ast
+import inspect
+import importlib
+import os
+import unittest
+
+TOP = os.path.dirname(os.path.dirname(os.path.abspath(__file__)))
+FUNCTIONS = {
+    "forms": """
+        is_integer(thing) is_fraction(thing) is_polynomial(many,thing) is_program(thing)
+        are_inputs(program,thing) is_past(program,thing) is_throw(thing)
+    """,
+    "fractions": """
+        reduced(num,den) added(one,other) lessened(one,other) times(one,other) over(one,other)
+        total_of(fractions) power_of(one,count) size_of(one) least_of(fractions) greatest_of(fractions)
+        whole_below(one) is_less(one,other) is_ahead(one,other) in_order(fractions)
+    """,
+    "polynomials": """
+        unit(many,place) constant(many,fraction) plus(one,other) minus(one,other) multiplied(one,other)
+        scaled(one,fraction) put_in(one,place,other) part_by(one,place,count) worth_at(one,values)
+        degree_in(one,place)
+    """,
+    "programs": """
+        roundings_of(program) choices_of(program) hangs_on(program,step) beside(one,other,word)
+    """,
+}
+ERRORS = """
+    ChanceError(args) Wrong(place) NoText(line) NoQuotient() TooMany(most) NotPlain(step) NotMild(lot)
+    NotByLevels(state) Broken(duty) Nothing() NoCommand()
+"""
+
+
+def defined_in(name):
+    with open(os.path.join(TOP, "chancegrain", name + ".py"), encoding="utf-8") as file:
+        return {node.name: node for node in ast.parse(file.read()).body if hasattr(node, "name")}
+
+
+class Interface(unittest.TestCase):
+    def test_functions(self):
+        for name, listed in FUNCTIONS.items():
+            module = importlib.import_module("chancegrain." + name)
+            found = defined_in(name)
+            for signature in listed.split():
+                word, _, told = signature.rstrip(")").partition("(")
+                self.assertIsInstance(found.get(word), ast.FunctionDef, signature)
+                parameters = inspect.signature(getattr(module, word)).parameters
+                self.assertEqual(",".join(parameters), told, signature)
+
+    def test_errors(self):
+        module = importlib.import_module("chancegrain.errors")
+        found = defined_in("errors")
+        for signature in ERRORS.split():
+            word, _, told = signature.rstrip(")").partition("(")
+            self.assertIsInstance(found.get(word), ast.ClassDef, signature)
+            if word != "ChanceError":
+                parameters = inspect.signature(getattr(module, word)).parameters
+                self.assertEqual(",".join(parameters), told, signature)
