@@ -1,5 +1,7 @@
 """What programs are made of, and how two of them become one."""
 
+from chancegrain.errors import NotPlain
+
 
 def steps_with(program, word):
     """Return the ascending tuple of the indexes of the steps with a word."""
@@ -53,3 +55,10 @@ def beside(one, other, word):
     ahead = len(one[1])
     steps = one[1] + tuple([moved_along(step, ahead) for step in other[1]])
     return (one[0], steps + ((word, ahead - 1, len(steps) - 1),))
+
+
+def must_be_plain(program):
+    """Raise NotPlain with the index of the first "choice" step, if there is one."""
+    choices = choices_of(program)
+    if len(choices) > 0:
+        raise NotPlain(choices[0])

@@ -25,6 +25,19 @@ FUNCTIONS = {
     "programs": """
         roundings_of(program) choices_of(program) hangs_on(program,step) beside(one,other,word)
     """,
+    "texts": "show_program(program) read_program(text)",
+    "worths": """
+        values_of(program,inputs,past) result_of(program,inputs,past) argument_of(program,inputs,past)
+        exact_result(program,inputs) errors_of(program,inputs,past) exact_past(program,inputs)
+    """,
+    "rules": """
+        mean_of_throw(throw) chance_of(program,inputs,rule,past) mean_of(program,inputs,rule)
+        square_of(program,inputs,rule) two_throw(low,mean,high) result_throw(program,inputs,rule)
+        is_rule(program,inputs,thing) pasts_that_come(program,inputs,rule,count)
+    """,
+    "errorthrows": "are_error_throws(program,thing) are_even(throws) rule_of(program,inputs,throws)",
+    "rounded": "rounded_result(program) rounded_argument(program,rounding) later_exact(program,count)",
+    "right": "bends(program) bends_at(program,inputs) is_right(program) right_at(program,inputs)",
 }
 ERRORS = """
     ChanceError(args) Wrong(place) NoText(line) NoQuotient() TooMany(most) NotPlain(step) NotMild(lot)

@@ -32,6 +32,14 @@ def trees():
     return {name: ast.parse(text) for name, text in files().items()}
 
 
+def module_names(tree):
+    found = {part.name for part in tree.body if hasattr(part, "name")}
+    for part in tree.body:
+        if isinstance(part, ast.Assign):
+            found.update(target.id for target in part.targets)
+    return found
+
+
 def bound_names(tree):
     found = set()
     for node in ast.walk(tree):
@@ -75,7 +83,7 @@ class Language(unittest.TestCase):
                         continue
                     self.assertTrue(node.module.startswith("chancegrain."), (name, node.module))
                     source = trees()[node.module.split(".")[1] + ".py"]
-                    self.assertLessEqual(names, {part.name for part in source.body if hasattr(part, "name")}, name)
+                    self.assertLessEqual(names, module_names(source), name)
                     self.assertFalse([alias for alias in node.names if alias.asname], name)
 
     def test_imports_are_used(self):

@@ -31,7 +31,7 @@ class Hanging(unittest.TestCase):
 
     def test_numbers_are_no_steps(self):
         # An input's index is the index of no step.
-        program = (2, (("round", 0),)[:0] + (("input", 0), ("round", 0), ("input", 1), ("sum", 2, 2)))
+        program = (2, (("input", 0), ("round", 0), ("input", 1), ("sum", 2, 2)))
         self.assertEqual(hangs_on(program, 2), ())
         self.assertEqual(hangs_on(program, 3), ())
 
