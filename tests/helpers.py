@@ -139,3 +139,28 @@ def plain_mean(program, inputs, rule):
 def even_throw(count):
     """An even throw of so many values, all as likely."""
     return tuple([((2 * at + 1 - count, 1), (1, count)) for at in range(count)])
+
+
+def roundings_many(program):
+    return len([step for step in program[1] if step[0] == "round"])
+
+
+def error_past(program, inputs, errors):
+    """The past in which each rounding comes to its argument and an error."""
+    past = ()
+    for error in errors:
+        argument = argument_of(program, inputs, past)
+        past = past + (fraction_of(number(argument) + number(error)),)
+    return past
+
+
+def error_rule(program, inputs, throws):
+    """The rule by which each rounding errs by a throw of its own, by an independent reckoning."""
+    rule, waiting = {}, [()]
+    while waiting:
+        past = waiting.pop()
+        if len(past) < len(throws):
+            argument = number(argument_of(program, inputs, past))
+            rule[past] = tuple([(fraction_of(argument + number(value)), share) for value, share in throws[len(past)]])
+            waiting.extend([past + (value,) for value, _ in rule[past]])
+    return rule

@@ -38,6 +38,23 @@ FUNCTIONS = {
     "errorthrows": "are_error_throws(program,thing) are_even(throws) rule_of(program,inputs,throws)",
     "rounded": "rounded_result(program) rounded_argument(program,rounding) later_exact(program,count)",
     "right": "bends(program) bends_at(program,inputs) is_right(program) right_at(program,inputs)",
+    "counters": """
+        gap_of(program,inputs,rule) is_counter(program,thing) is_short(program,inputs,rule) counter_of(program)
+        counter_at(program,inputs)
+    """,
+    "lots": "error_polynomial(program) error_lots(program) lots_at(program,inputs) merged_lots(program,classes)",
+    "kinds": """
+        bad_lots(program,word) is_mild(program) is_own_right(program) is_even_right(program)
+        is_shared_right(program,classes) kind_of(program)
+    """,
+    "kindcounters": """
+        own_counter(program) even_counter(program) is_own_counter(program,thing) is_even_counter(program,thing)
+    """,
+    "spread": """
+        square_parts(program,inputs,widths) greatest_square(program,inputs,widths)
+        greatest_error(program,inputs,widths) widest_throws(program,widths) worst_errors(program,inputs,widths)
+        is_within(program,inputs,widths,thing)
+    """,
 }
 ERRORS = """
     ChanceError(args) Wrong(place) NoText(line) NoQuotient() TooMany(most) NotPlain(step) NotMild(lot)
