@@ -15,15 +15,17 @@ def with_inputs(one, inputs):
     return one
 
 
+def is_bent(program, inputs, rounding):
+    """Tell whether a rounding bends with some inputs, perhaps none, put in."""
+    one = with_inputs(later_exact(program, rounding + 1), inputs)
+    return degree_in(one, program[0] + rounding) > 1
+
+
 def bent_ones(program, inputs):
     """Return the LOT of the roundings that bend with some inputs, perhaps none, put in."""
     must_be_plain(program)
-    found = []
-    for rounding in range(len(roundings_of(program))):
-        one = with_inputs(later_exact(program, rounding + 1), inputs)
-        if degree_in(one, program[0] + rounding) > 1:
-            found.append(rounding)
-    return tuple(found)
+    many = len(roundings_of(program))
+    return tuple([rounding for rounding in range(many) if is_bent(program, inputs, rounding)])
 
 
 def bends(program):
@@ -33,7 +35,12 @@ def bends(program):
 
 def is_right(program):
     """Tell whether a program is RIGHT."""
-    return bends(program) == ()
+    must_be_plain(program)
+    # The polynomials grow with each rounding, so the first one that bends ends the search.
+    for rounding in range(len(roundings_of(program))):
+        if is_bent(program, (), rounding):
+            return False
+    return True
 
 
 def bends_at(program, inputs):

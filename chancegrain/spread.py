@@ -29,9 +29,15 @@ def square_parts(program, inputs, widths):
     return parts
 
 
+def square_by(worths, widths):
+    """Return the greatest SQUARE WITHIN widths, worths being those of the factors of error lots."""
+    return total_of([power_of(member_worth(lot, worth, widths), 2) for lot, worth in worths.items()])
+
+
 def greatest_square(program, inputs, widths):
     """Return the greatest SQUARE of all rules at inputs WITHIN widths."""
-    return total_of(list(square_parts(program, inputs, widths).values()))
+    must_be_mild(program)
+    return square_by(lots_at(program, inputs), widths)
 
 
 def below_zero(one):

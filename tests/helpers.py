@@ -3,6 +3,7 @@
 from fractions import Fraction
 
 from chancegrain.errors import ChanceError, NoQuotient, Wrong
+from chancegrain.kinds import is_mild
 from chancegrain.programs import roundings_of
 from chancegrain.worths import argument_of
 
@@ -65,6 +66,13 @@ def some_program(chance, many, count, words):
             return program
 
 
+def mild_program(chance):
+    while True:
+        program = some_program(chance, 2, 9, ["sum", "less", "times", "round", "round"])
+        if is_mild(program):
+            return program
+
+
 def some_inputs(chance, many):
     return tuple([fraction_of(Fraction(chance.randint(-5, 5), chance.randint(1, 3))) for _ in range(many)])
 
@@ -98,6 +106,17 @@ def some_rule(chance, program, inputs):
             rule[past] = throw
         waiting.extend([past + (value,) for value, _ in throw])
     return rule
+
+
+def plain_worth(one, values):
+    """What a polynomial comes to, as the library's fraction."""
+    total = Fraction(0)
+    for powers, factor in one:
+        part = number(factor)
+        for value, power in zip(values, powers):
+            part *= number(value) ** power
+        total += part
+    return total
 
 
 def plain_values(program, inputs, past):

@@ -55,6 +55,23 @@ FUNCTIONS = {
         greatest_error(program,inputs,widths) widest_throws(program,widths) worst_errors(program,inputs,widths)
         is_within(program,inputs,widths,thing)
     """,
+    "wider": """
+        is_never_wider(one,other,inputs) wider_lots(one,other,inputs) parting_widths(one,other,inputs)
+    """,
+    "draws": """
+        fewest_draws(many,goal) use_for(many,goal,counts) is_fair(many,goal,counts,use)
+        use_mean(counts,use,values,rule) unfair_rule(many,goal,counts,use)
+    """,
+    "anew": "anew(program,lot) anew_roundings(program,lot) least_anew(program)",
+    "loops": """
+        is_loop(thing) exact_round(loop) values_behind(loop,values,count) led_goal(loop,goal,count)
+        mean_behind(loop,goal,values,count,rule) round_program(loop,goal)
+    """,
+    "levels": "levels_of(loop) weights_of(loop) members_many(loop,goal)",
+    "forever": """
+        span_of(loop,goal) is_span(loop,goal,thing) right_for_ever(loop,goal) is_loop_counter(loop,goal,thing)
+        first_amiss(loop,goal) loop_counter(loop,goal)
+    """,
 }
 ERRORS = """
     ChanceError(args) Wrong(place) NoText(line) NoQuotient() TooMany(most) NotPlain(step) NotMild(lot)

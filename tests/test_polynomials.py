@@ -6,7 +6,7 @@ from chancegrain.forms import is_polynomial
 from chancegrain.polynomials import (
     constant, degree_in, minus, multiplied, part_by, plus, put_in, scaled, unit, worth_at,
 )
-from tests.helpers import fraction_of, number
+from tests.helpers import fraction_of, number, plain_worth
 
 
 def some_polynomial(chance, many):
@@ -19,16 +19,6 @@ def some_polynomial(chance, many):
 
 def some_values(chance, many):
     return tuple([fraction_of(Fraction(chance.randint(-5, 5), chance.randint(1, 4))) for _ in range(many)])
-
-
-def worth(one, values):
-    total = Fraction(0)
-    for powers, factor in one:
-        part = number(factor)
-        for value, power in zip(values, powers):
-            part *= number(value) ** power
-        total += part
-    return total
 
 
 class Plain(unittest.TestCase):
@@ -64,14 +54,14 @@ class Plain(unittest.TestCase):
                 one, other = some_polynomial(chance, many), some_polynomial(chance, many)
                 values = some_values(chance, many)
                 factor = some_values(chance, 1)[0]
-                first, second = worth(one, values), worth(other, values)
+                first, second = plain_worth(one, values), plain_worth(other, values)
                 self.assertEqual(number(worth_at(one, values)), first)
                 for found, meant in [
                     (plus(one, other), first + second), (minus(one, other), first - second),
                     (multiplied(one, other), first * second), (scaled(one, factor), first * number(factor)),
                 ]:
                     self.assertIs(is_polynomial(many, found), True)
-                    self.assertEqual(worth(found, values), meant)
+                    self.assertEqual(plain_worth(found, values), meant)
 
 
 class Parts(unittest.TestCase):
@@ -83,9 +73,9 @@ class Parts(unittest.TestCase):
                 values = some_values(chance, many)
                 for place in range(many):
                     found = put_in(one, place, other)
-                    moved = values[:place] + (fraction_of(worth(other, values)),) + values[place + 1:]
+                    moved = values[:place] + (fraction_of(plain_worth(other, values)),) + values[place + 1:]
                     self.assertIs(is_polynomial(many, found), True)
-                    self.assertEqual(worth(found, values), worth(one, moved))
+                    self.assertEqual(plain_worth(found, values), plain_worth(one, moved))
 
     def test_put_in_itself(self):
         x, y = unit(2, 0), unit(2, 1)

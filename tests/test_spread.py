@@ -4,7 +4,7 @@ from fractions import Fraction
 
 from chancegrain.errors import NotMild, NotPlain
 from chancegrain.errorthrows import are_error_throws
-from chancegrain.kinds import bad_lots, is_mild
+from chancegrain.kinds import bad_lots
 from chancegrain.lots import error_lots
 from chancegrain.rules import is_rule, square_of
 from chancegrain.spread import (
@@ -12,11 +12,10 @@ from chancegrain.spread import (
 )
 from chancegrain.worths import argument_of, exact_result, result_of
 from tests.helpers import (
-    error_past, error_rule, exchanged, fraction_of, number, odd_values, plain_results, roundings_many, some_inputs,
-    some_program, whole,
+    error_past, error_rule, exchanged, fraction_of, mild_program, number, odd_values, plain_results, roundings_many,
+    some_inputs, whole,
 )
 
-WORDS = ["sum", "less", "times", "round", "round"]
 HALF, ONE, ZERO = (1, 2), (1, 1), (0, 1)
 INPUT = ("input", 0)
 SQUARE = (1, (INPUT, ("round", 0), ("times", 1, 1)))
@@ -28,13 +27,6 @@ BEHIND = (1, (INPUT, ("round", 0), ("sum", 1, 0), ("round", 2), ("sum", 1, 3)))
 CHOOSING = (1, (INPUT, ("round", 0), ("times", 1, 1), ("choice", 0, 0, 2)))
 # Mild as a whole, though squares stand in it.
 CANCELLED = (1, SQUARE[1] + (("less", 2, 2), ("sum", 3, 1)))
-
-
-def mild_program(chance):
-    while True:
-        program = some_program(chance, 2, 9, WORDS)
-        if is_mild(program):
-            return program
 
 
 def some_widths(chance, many):
