@@ -1,9 +1,7 @@
 """Programs in which second sides of products are worked out anew, by roundings of their own."""
 
 from chancegrain.errors import TooMany
-from chancegrain.programs import (
-    hangs_on, must_be_plain, names_no_steps, roundings_of, steps_behind, steps_with,
-)
+from chancegrain.programs import must_be_plain, names_no_steps, roundings_of, steps_behind, steps_with
 from chancegrain.right import is_right
 
 MOST_PRODUCTS = 6
@@ -55,24 +53,6 @@ def anew_roundings(program, lot):
     return len(roundings_of(anew(program, lot))) - len(roundings_of(program))
 
 
-def is_parted(program):
-    """Tell whether no rounding is needed for both sides of one product that is needed for the result."""
-    for index in steps_behind(program, len(program[1]) - 1, ()):
-        word, sides = program[1][index][0], program[1][index][1:]
-        if word == "times":
-            first, second = hangs_on(program, sides[0]), hangs_on(program, sides[1])
-            if any([rounding in second for rounding in first]):
-                return False
-    return True
-
-
-def becomes_right(program, lot):
-    """Tell whether a program becomes RIGHT when a lot is worked out anew."""
-    told = anew(program, lot)
-    # A parted program is mild. That is seen at once, while its polynomials may be very long.
-    return is_parted(told) or is_right(told)
-
-
 def sub_lots(indexes):
     """Return the list of all lots of some indexes, none behind one that lies in it."""
     lots = [()]
@@ -94,6 +74,6 @@ def least_anew(program):
         raise TooMany(MOST_PRODUCTS)
     found = []
     for lot in sub_lots(products):
-        if not any([lies_in(one, lot) for one in found]) and becomes_right(program, lot):
+        if not any([lies_in(one, lot) for one in found]) and is_right(anew(program, lot)):
             found.append(lot)
     return sorted(found)

@@ -1,7 +1,7 @@
 """Whether the mean of a plain program is the exact result by all rules."""
 
 from chancegrain.polynomials import constant, degree_in, put_in
-from chancegrain.programs import must_be_plain, roundings_of
+from chancegrain.programs import must_be_plain, names_no_steps, roundings_of, steps_behind
 from chancegrain.rounded import later_exact
 
 
@@ -15,8 +15,27 @@ def with_inputs(one, inputs):
     return one
 
 
+def degree_bound(program, rounding):
+    """Return what the degree of LATER EXACT of one more in a rounding's variable is at most."""
+    kept = roundings_of(program)[:rounding + 1]
+    last = len(program[1]) - 1
+    bounds = {}
+    for index in steps_behind(program, last, kept):
+        step = program[1][index]
+        if index in kept or names_no_steps(step):
+            bounds[index] = 1 if index == kept[rounding] else 0
+        elif step[0] == "times":
+            bounds[index] = bounds[step[1]] + bounds[step[2]]
+        else:
+            bounds[index] = max([bounds[side] for side in step[1:]])
+    return bounds[last]
+
+
 def is_bent(program, inputs, rounding):
     """Tell whether a rounding bends with some inputs, perhaps none, put in."""
+    # Polynomials may be very long, so they are left alone where no product can make a square.
+    if degree_bound(program, rounding) <= 1:
+        return False
     one = with_inputs(later_exact(program, rounding + 1), inputs)
     return degree_in(one, program[0] + rounding) > 1
 

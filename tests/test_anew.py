@@ -187,6 +187,9 @@ class Least(unittest.TestCase):
         steps = (INPUT, ("round", 0), ("round", 0), ("round", 0), ("sum", 0, 1), ("sum", 4, 2), ("sum", 5, 3),
                  ("times", 6, 6), ("times", 7, 6), ("times", 8, 8), ("times", 9, 9))
         self.assertEqual(least_anew((1, steps)), [(7, 8, 9, 10)])
+        # Besides, e * e * f of two of the errors: it is right as it is, but not mild.
+        more = (("less", 1, 0), ("less", 2, 0), ("times", 11, 11), ("times", 13, 12), ("sum", 10, 14))
+        self.assertEqual(least_anew((1, steps + more)), [(7, 8, 9, 10)])
 
     def test_lists_are_the_callers(self):
         least_anew(CUBE).append(None)

@@ -114,6 +114,23 @@ class Right(unittest.TestCase):
             self.assertEqual(bends_at(parted, inputs), meant)
             self.assertIs(right_at(parted, inputs), meant == ())
 
+    def test_degrees(self):
+        chance = random.Random(23)
+        seen = {True: 0, False: 0}
+        for _ in range(200):
+            program = some_program(chance, 2, 10, WORDS)
+            meant = [at for at in range(roundings(program)) if degree_in(later_exact(program, at + 1), 2 + at) > 1]
+            self.assertEqual(bends(program), tuple(meant))
+            self.assertIs(is_right(program), meant == [])
+            seen[meant == []] += 1
+        self.assertGreater(min(seen.values()), 25)
+
+    def test_squares_that_cancel(self):
+        self.assertEqual(bends((1, SQUARE[1] + (("less", 2, 2), ("sum", 3, 1)))), ())
+        # The square of the first is taken from the product with the second, which is exact in the mean.
+        steps = (("input", 0), ("round", 0), ("round", 1), ("times", 1, 1), ("times", 1, 2), ("less", 3, 4))
+        self.assertEqual([bends((1, steps)), later_exact((1, steps), 1)], [(), ()])
+
     def test_without_roundings(self):
         program = (1, (("input", 0), ("times", 0, 0)))
         self.assertEqual([bends(program), is_right(program)], [(), True])
