@@ -4,8 +4,7 @@ from chancegrain.errors import TooMany
 from chancegrain.forms import is_throw, is_tuple_of
 from chancegrain.fractions import added
 from chancegrain.programs import roundings_of
-from chancegrain.rules import MOST_PASTS, mean_of_throw
-from chancegrain.worths import argument_of
+from chancegrain.rules import MOST_PASTS, mean_of_throw, rule_by
 
 
 def is_error_throw(thing):
@@ -46,13 +45,4 @@ def rule_of(program, inputs, throws):
     """Return the RULE of ERROR THROWS at inputs."""
     if full_pasts_many(throws) > MOST_PASTS:
         raise TooMany(MOST_PASTS)
-    rule = {}
-    # The last one waiting is always the least: a past stands ahead of all that begin with it.
-    waiting = [()]
-    while len(waiting) > 0:
-        past = waiting.pop()
-        if len(past) < len(throws):
-            throw = throw_around(argument_of(program, inputs, past), throws[len(past)])
-            rule[past] = throw
-            waiting.extend([past + (item[0],) for item in reversed(throw)])
-    return rule
+    return rule_by(program, inputs, lambda past, argument: throw_around(argument, throws[len(past)]))

@@ -4,7 +4,7 @@ from chancegrain.forms import is_index, is_program, is_tuple_of
 from chancegrain.fractions import times, total_of
 from chancegrain.placing import Placing
 from chancegrain.polynomials import worth_at
-from chancegrain.programs import choices_of, roundings_of, steps_behind
+from chancegrain.programs import choices_of, needed_by, roundings_of
 from chancegrain.rounded import step_rounded
 from chancegrain.rules import sure_throw
 from chancegrain.worths import step_worth
@@ -54,15 +54,6 @@ def led_goal(loop, goal, count):
     return goal
 
 
-def needed_steps(loop):
-    """Return the dict to True from the steps that some next state or some rounding needs."""
-    needed = {}
-    for step in loop[2] + roundings_of(steps_of(loop)):
-        for index in steps_behind(steps_of(loop), step, ()):
-            needed[index] = True
-    return needed
-
-
 def run_on(step, states, rule, run):
     """Return the runs that one becomes by a step: lists of values, pasts, and chances."""
     values, past, chance = run
@@ -86,7 +77,7 @@ def round_runs(loop, needed, rule, start):
 
 def further_runs(loop, rule, runs):
     """Return the runs that some become by a round."""
-    needed = needed_steps(loop)
+    needed = needed_by(steps_of(loop), loop[2])
     return [further for run in runs for further in round_runs(loop, needed, rule, run)]
 
 

@@ -43,6 +43,15 @@ def hangs_on(program, step):
     return tuple([number for number, index in enumerate(roundings_of(program)) if index in behind])
 
 
+def needed_by(program, ends):
+    """Return the dict to True from the steps that some ends, or some rounding, need."""
+    needed = {}
+    for step in ends + roundings_of(program):
+        for index in steps_behind(program, step, ()):
+            needed[index] = True
+    return needed
+
+
 def moved_along(step, by):
     """Return a step whose indexes of steps are greater by so much."""
     if names_no_steps(step):

@@ -48,6 +48,24 @@ def throw_at(program, inputs, rule, past):
     return sure_throw(argument_of(program, inputs, past))
 
 
+def rule_by(program, inputs, throw_for):
+    """Return the RULE whose keys are just the pasts, short of full ones, that come about by it.
+
+    throw_for is called with a past and the argument of its next rounding, and tells the throw.
+    """
+    many = len(roundings_of(program))
+    rule = {}
+    # The last one waiting is always the least: a past stands ahead of all that begin with it.
+    waiting = [()]
+    while len(waiting) > 0:
+        past = waiting.pop()
+        if len(past) < many:
+            throw = throw_for(past, argument_of(program, inputs, past))
+            rule[past] = throw
+            waiting.extend([past + (item[0],) for item in reversed(throw)])
+    return rule
+
+
 def chance_in(throw, value):
     """Return the chance of a value in a THROW."""
     for item in throw:

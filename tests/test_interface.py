@@ -72,6 +72,26 @@ FUNCTIONS = {
         span_of(loop,goal) is_span(loop,goal,thing) right_for_ever(loop,goal) is_loop_counter(loop,goal,thing)
         first_amiss(loop,goal) loop_counter(loop,goal)
     """,
+    "reaches": """
+        multiples(number,grain,width) next_values(program,inputs,grains,past)
+        grain_pasts(program,inputs,grains,count) is_on_grains(program,inputs,grains,thing)
+    """,
+    "grainmeans": """
+        greatest_mean(program,inputs,grains) least_mean(program,inputs,grains)
+        greatest_plan(program,inputs,grains) least_plan(program,inputs,grains)
+    """,
+    "lines": """
+        upper_paper(program,inputs,grains) lower_paper(program,inputs,grains)
+        is_upper_paper(program,inputs,grains,thing) is_lower_paper(program,inputs,grains,thing)
+        paper_bound(program,inputs,paper)
+    """,
+    "sides": """
+        sides_of(program,inputs,grains) mean_span(program,inputs,grains,lot) safe_lots(program,inputs,grains)
+    """,
+    "neighbours": """
+        neighbours_of(number,grain) neighbour_throw(number,grain) neighbour_result(program,inputs,grains)
+        neighbour_rule(program,inputs,grains) is_neighbour_rule(program,inputs,grains,thing)
+    """,
 }
 ERRORS = """
     ChanceError(args) Wrong(place) NoText(line) NoQuotient() TooMany(most) NotPlain(step) NotMild(lot)
