@@ -58,7 +58,7 @@ class Means(unittest.TestCase):
             many = 1
             for told in throws:
                 many *= len(told)
-            least, greatest = number(least_mean(program, inputs, grains)), number(greatest_mean(program, inputs, grains))
+            least, greatest = [number(told(program, inputs, grains)) for told in (least_mean, greatest_mean)]
             if many > 300 or (least == greatest and chance.random() < 0.8):
                 continue
             means = [plain_mean(program, inputs, rule) for rule in rules]
@@ -69,8 +69,8 @@ class Means(unittest.TestCase):
         grains = ((ONE, whole(2)),)
         # Rounded to -1, 0, 1 or 2, squared from the limit on.
         for limit in [
-            ZERO, (1, 1000), (-1, 1000), ONE, (999, 1000), (1001, 1000), whole(2), (1999, 1000), (2001, 1000), whole(-1),
-            (-1001, 1000), (-999, 1000),
+            ZERO, (1, 1000), (-1, 1000), ONE, (999, 1000), (1001, 1000), whole(2), (1999, 1000), (2001, 1000),
+            whole(-1), (-1001, 1000), (-999, 1000),
         ]:
             self.check(choosing(limit), ((1, 4),), grains)
         self.assertEqual(greatest_mean(choosing(whole(2)), (HALF,), grains), whole(2))

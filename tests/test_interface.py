@@ -92,6 +92,23 @@ FUNCTIONS = {
         neighbours_of(number,grain) neighbour_throw(number,grain) neighbour_result(program,inputs,grains)
         neighbour_rule(program,inputs,grains) is_neighbour_rule(program,inputs,grains,thing)
     """,
+    "again": "again_throw(number,grains) is_once(grains) once_parting(grains)",
+    "samethrow": """
+        matchings(one,other) same_throw(one,other) matched_throws(matching,throws)
+        parting_throws(one,other,matching)
+    """,
+    "moves": "moves_of(program) moved(program,move)",
+    "movedkinds": """
+        kinds_behind(program) squares_behind(program,inputs,width)
+        least_by_moves(program,inputs,width,words,most)
+    """,
+}
+CLASSES = {
+    ("live", "Live"): """
+        __init__(self,program) __eq__(self,other) put(self,step) change(self,index,step) owe(self,duty) back(self)
+        again(self) take(self) free(self,index) program_now(self) duties(self) kind(self) twin(self)
+    """,
+    ("desk", "Desk"): "__init__(self,text) execute(self,line) live(self)",
 }
 ERRORS = """
     ChanceError(args) Wrong(place) NoText(line) NoQuotient() TooMany(most) NotPlain(step) NotMild(lot)
@@ -113,6 +130,16 @@ class Interface(unittest.TestCase):
                 word, _, told = signature.rstrip(")").partition("(")
                 self.assertIsInstance(found.get(word), ast.FunctionDef, signature)
                 parameters = inspect.signature(getattr(module, word)).parameters
+                self.assertEqual(",".join(parameters), told, signature)
+
+    def test_classes(self):
+        for (name, word), listed in CLASSES.items():
+            module = importlib.import_module("chancegrain." + name)
+            found = {node.name: node for node in defined_in(name)[word].body if hasattr(node, "name")}
+            for signature in listed.split():
+                method, _, told = signature.rstrip(")").partition("(")
+                self.assertIsInstance(found.get(method), ast.FunctionDef, signature)
+                parameters = inspect.signature(getattr(getattr(module, word), method)).parameters
                 self.assertEqual(",".join(parameters), told, signature)
 
     def test_errors(self):

@@ -181,7 +181,8 @@ class Telling(unittest.TestCase):
 
     def test_heights_and_slopes_that_are_no_fractions(self):
         for line in [
-            (2, 1), (whole(2), 1), (whole(2), (2, 2)), ((4, 2), ONE), ([2, 1], ONE), [whole(2), ONE], (whole(2), (True, 1)),
+            (2, 1), (whole(2), 1), (whole(2), (2, 2)), ((4, 2), ONE), ([2, 1], ONE), [whole(2), ONE],
+            (whole(2), (True, 1)),
             ((2, True), ONE), (whole(2), ONE, ZERO), (whole(2),), (), None, whole(2), ((2, -1), ONE), ((2, 0), ONE),
         ]:
             self.assertEqual(self.both({(): line}), (False, False), line)

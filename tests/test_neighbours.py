@@ -95,7 +95,8 @@ class Rules(unittest.TestCase):
             self.assertIs(is_neighbour_rule(program, inputs, grains, rule), True)
 
     def test_without_roundings_and_without_inputs(self):
-        self.assertEqual([neighbour_rule(NONE, (HALF,), ()), neighbour_result(NONE, (HALF,), ())], [{}, (((1, 4), ONE),)])
+        self.assertEqual([neighbour_rule(NONE, (HALF,), ()), neighbour_result(NONE, (HALF,), ())],
+                         [{}, (((1, 4), ONE),)])
         self.assertIs(is_neighbour_rule(NONE, (HALF,), (), {}), True)
         program = (0, (("told", (-5, 2)), ("round", 0)))
         self.assertEqual(neighbour_result(program, (), (whole(2),)), ((whole(-4), (1, 4)), (whole(-2), (3, 4))))
@@ -146,10 +147,12 @@ class Telling(unittest.TestCase):
     def test_values_that_are_no_neighbours(self):
         rule = neighbour_rule(LATER, self.INPUTS, self.GRAINS)
         for past, throw in [
-            ((), ((whole(-1), HALF), (whole(2), HALF))), ((), ((HALF, ONE),)), ((), ((ZERO, (3, 4)), (whole(2), (1, 4)))),
+            ((), ((whole(-1), HALF), (whole(2), HALF))), ((), ((HALF, ONE),)),
+            ((), ((ZERO, (3, 4)), (whole(2), (1, 4)))),
             ((), ((whole(-1), (1, 4)), (ZERO, (1, 4)), (ONE, (1, 4)), (whole(2), (1, 4)))),
             ((), ((ZERO, (1, 4)), (HALF, HALF), (ONE, (1, 4)))),
-            ((ZERO,), (((-1, 3), HALF), ((1, 3), HALF))), ((ZERO,), (((-1, 3), (1, 4)), (ZERO, HALF), ((1, 3), (1, 4)))),
+            ((ZERO,), (((-1, 3), HALF), ((1, 3), HALF))),
+            ((ZERO,), (((-1, 3), (1, 4)), (ZERO, HALF), ((1, 3), (1, 4)))),
             ((ONE,), ((HALF, ONE),)), ((ONE,), ((ZERO, HALF), (ONE, HALF))),
         ]:
             self.assertIs(is_rule(LATER, self.INPUTS, {**rule, past: throw}), True)

@@ -180,7 +180,8 @@ class OnGrains(unittest.TestCase):
     def test_no_throw_of_that_mean_at_a_past_that_cannot_come(self):
         parted = {(): ((ZERO, HALF), (ONE, HALF))}
         for past, throw in [
-            ((whole(7),), ((whole(3), ONE),)), ((whole(7),), (((7, 2), HALF),)), ((whole(7),), None), ((ONE, ONE), None),
+            ((whole(7),), ((whole(3), ONE),)), ((whole(7),), (((7, 2), HALF),)), ((whole(7),), None),
+            ((ONE, ONE), None),
             ((whole(7), ONE), ((ONE, ONE),)), (((True, 1),), ((HALF, ONE),)), ("x", ((HALF, ONE),)),
         ]:
             self.assertIs(is_on_grains(LATER, self.INPUTS, self.GRAINS, {**parted, past: throw}), False, past)
