@@ -51,7 +51,7 @@ def read_told(words):
         told = (read_duty(more),)
     elif word == "free" and len(more) == 1:
         told = (read_count(more[0]),)
-    elif word == "change" and len(more) > 1:
+    elif word == "change" and len(more) > 0:
         told = (read_count(more[0]), read_any_step(more[1:]))
     else:
         return None

@@ -202,6 +202,19 @@ class Least(unittest.TestCase):
         self.assertIsNone(least_by_moves(program, (ONE,) * 3, ONE, ("join", "put", "scale"), 3))
         self.assertEqual(least_by_moves(program, (ONE,) * 3, ONE, ("drop", "put"), 2), (ZERO, (("drop", 0),)))
 
+    def test_squares_that_fall_away_at_some_numbers(self):
+        # The square of an error times another number: not mild, whatever inputs and errors make it 0.
+        for value in range(-3, 14):
+            errors = (FIRST, ("round", 0), ("less", 1, 0), ("times", 2, 2), ("told", whole(value)))
+            by_input = (1, errors + (("less", 0, 4), ("times", 3, 5)))
+            by_error = (1, errors + (("round", 0), ("less", 5, 0), ("less", 6, 4), ("times", 3, 7)))
+            for program in [by_input, by_error]:
+                self.assertIsNone(least_by_moves(program, (ONE,), ONE, (), 0))
+                self.assertEqual(squares_behind(program, (ONE,), ONE), {
+                    move: square for move in plain_moves(program)
+                    for square in [plain_square(plain_moved(program, move), (ONE,), ONE)] if square is not None
+                })
+
     def test_squares_that_fall_away(self):
         # Mild, though a product could make a square.
         steps = SQUARE[1] + (("less", 2, 2), ("sum", 3, 1))
