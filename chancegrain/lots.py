@@ -5,18 +5,25 @@ from chancegrain.programs import must_be_plain, roundings_of, steps_behind
 from chancegrain.rounded import step_polynomial
 
 
-def error_polynomial(program):
-    """Return the result as a POLYNOMIAL of inputs and ERRORS."""
-    must_be_plain(program)
+def result_by(program, many, inputs, errors):
+    """Return the result as a POLYNOMIAL of so many variables, lists of such being told for inputs and errors."""
     roundings = roundings_of(program)
-    many = program[0] + len(roundings)
     last = len(program[1]) - 1
     found = {}
     for index in steps_behind(program, last, ()):
-        found[index] = step_polynomial(program[1][index], many, found)
+        step = program[1][index]
+        found[index] = inputs[step[1]] if step[0] == "input" else step_polynomial(step, many, found)
         if index in roundings:
-            found[index] = plus(found[index], unit(many, program[0] + roundings.index(index)))
+            found[index] = plus(found[index], errors[roundings.index(index)])
     return found[last]
+
+
+def error_polynomial(program):
+    """Return the result as a POLYNOMIAL of inputs and ERRORS."""
+    must_be_plain(program)
+    many = program[0] + len(roundings_of(program))
+    units = [unit(many, place) for place in range(many)]
+    return result_by(program, many, units[:program[0]], units[program[0]:])
 
 
 def error_lots(program):

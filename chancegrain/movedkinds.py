@@ -3,11 +3,10 @@
 from chancegrain.errors import TooMany
 from chancegrain.fractions import is_less
 from chancegrain.kinds import bars, kind_of
-from chancegrain.lots import error_lots
+from chancegrain.lots import error_lots, result_by
 from chancegrain.moves import moved, moves_of
-from chancegrain.polynomials import constant, degree_in, plus, unit, worth_at
-from chancegrain.programs import must_be_plain, roundings_of, steps_behind
-from chancegrain.rounded import step_polynomial
+from chancegrain.polynomials import constant, degree_in, unit, worth_at
+from chancegrain.programs import must_be_plain, roundings_of
 from chancegrain.spread import square_by
 
 MOST_PROGRAMS = 300
@@ -21,20 +20,10 @@ def kinds_behind(program):
 
 def by_one_error(program, rounding):
     """Return the result as a POLYNOMIAL of the error of one rounding, some numbers standing for all else."""
-    roundings = roundings_of(program)
-    last = len(program[1]) - 1
-    found = {}
-    for index in steps_behind(program, last, ()):
-        step = program[1][index]
-        if step[0] == "input":
-            found[index] = constant(1, (step[1] + 2, 1))
-        else:
-            found[index] = step_polynomial(step, 1, found)
-        if index in roundings:
-            number = roundings.index(index)
-            error = unit(1, 0) if number == rounding else constant(1, (2 * number + 7, 1))
-            found[index] = plus(found[index], error)
-    return found[last]
+    inputs = [constant(1, (place + 2, 1)) for place in range(program[0])]
+    errors = [constant(1, (2 * place + 7, 1)) for place in range(len(roundings_of(program)))]
+    errors[rounding] = unit(1, 0)
+    return result_by(program, 1, inputs, errors)
 
 
 def is_bent_by_one(program):
